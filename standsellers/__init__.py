@@ -1,0 +1,1 @@
+"""Standsellers: where sellers stand on a web of roads, and whether they rest."""

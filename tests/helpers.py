@@ -1,0 +1,55 @@
+"""What several test files use: the exact comparison, and sample webs."""
+
+import unittest
+
+
+class TellCase(unittest.TestCase):
+    """A test that also looks at the kinds of what is told."""
+
+    def assert_told(self, told, expected):
+        # repr keeps apart what == does not: 1 and True.
+        self.assertEqual(repr(told), repr(expected))
+        self.assertEqual(told, expected)
+
+    def assert_refused(self, refusal, call, *arguments):
+        with self.assertRaises(refusal) as caught:
+            call(*arguments)
+        self.assertIs(type(caught.exception), refusal)
+
+
+HUGE = 10 ** 30 - 1
+
+
+def alone():
+    return ([4], [])
+
+
+def row_of_three():
+    return ([3, 0, 5], [(0, 1, 2), (1, 2, 1)])
+
+
+def detour():
+    """The road 0-2 is longer than the way over 1; 3 hangs on 2."""
+    return ([1, 2, 0, 4], [(0, 1, 2), (0, 2, 9), (1, 2, 3), (2, 3, 1)])
+
+
+def ring():
+    """Four places round, each two facing ones as near over either side."""
+    return ([5, 7, 0, 1], [(0, 1, 1), (0, 3, 1), (1, 2, 1), (2, 3, 1)])
+
+
+def long_row():
+    """Twelve places in a row, lengths 1 to 11."""
+    return (list(range(12)), [(at, at + 1, at + 1) for at in range(11)])
+
+
+def close_mesh():
+    """Twelve places and thirty-five roads: a row and all roads over one or two places, and some more."""
+    roads = [(a, b, 7 * a + 3 * b + 1) for a in range(12) for b in range(a + 1, 12)]
+    near = [road for road in roads if road[1] - road[0] <= 3]
+    far = [road for road in roads if road[1] - road[0] > 3]
+    return ([k * k for k in range(12)], sorted(near + far[:35 - len(near)]))
+
+
+def sample_webs():
+    return [alone(), row_of_three(), detour(), ring(), long_row(), close_mesh()]
