@@ -12,15 +12,8 @@ def who_comes(web, standing):
 
 def shares(web, standing):
     """Seller by seller, the share of all folk, each of whom counts share_unit times."""
-    sharers = who_comes(web, standing)
-    unit = share_unit(len(standing))
-    told = [0] * len(standing)
-    for many, sellers in zip(web[0], sharers):
-        # Exact: the unit is a multiple of how many sellers share.
-        each = many * unit // len(sellers)
-        for seller in sellers:
-            told[seller] += each
-    return told
+    check_standing(web, standing)
+    return shares_by(web[0], all_ways(web), standing)
 
 
 def reach(web, standing, seller):
@@ -28,6 +21,19 @@ def reach(web, standing, seller):
     sharers = who_comes(web, standing)
     check_seller(standing, seller)
     return [place for place, sellers in enumerate(sharers) if seller in sellers]
+
+
+def shares_by(folk, ways, standing):
+    """The shares by folk and ways, as ways that are asked often are found once only."""
+    unit = share_unit(len(standing))
+    told = [0] * len(standing)
+    for many, row in zip(folk, ways):
+        sellers = nearest_sellers(row, standing)
+        # Exact: the unit is a multiple of how many sellers share.
+        each = many * unit // len(sellers)
+        for seller in sellers:
+            told[seller] += each
+    return told
 
 
 def nearest_sellers(row, standing):

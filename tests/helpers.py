@@ -1,5 +1,6 @@
 """What several test files use: the exact comparison, and sample webs."""
 
+import itertools
 import unittest
 
 
@@ -51,5 +52,46 @@ def close_mesh():
     return ([k * k for k in range(12)], sorted(near + far[:35 - len(near)]))
 
 
+def unquiet():
+    """Three sellers never rest here, four mostly do."""
+    return ([6, 2, 0, 5], [(0, 1, 4), (1, 2, 1), (2, 3, 3)])
+
+
+def even_row():
+    """Alike from either end; three sellers never rest here."""
+    return ([5, 2, 5], [(0, 1, 1), (1, 2, 1)])
+
+
+def half_quiet():
+    """Two sellers rest only where both stand at 2 or 3, and come there from nowhere else."""
+    return ([2, 1, 6, 5], [(0, 1, 4), (0, 3, 2), (1, 2, 2), (2, 3, 3)])
+
+
 def sample_webs():
     return [alone(), row_of_three(), detour(), ring(), long_row(), close_mesh()]
+
+
+def standings(web, most):
+    """All standings of one to so many sellers."""
+    for sellers in range(1, most + 1):
+        for standing in itertools.product(range(len(web[0])), repeat=sellers):
+            yield list(standing)
+
+
+def small_cases():
+    for web in (alone(), row_of_three()):
+        for standing in standings(web, 5):
+            yield web, standing
+    for web in (detour(), ring()):
+        for standing in standings(web, 4):
+            yield web, standing
+
+
+def wrong_standings(web):
+    """Standings that the web has not: no seller, and a wrong place at each seller of one to five."""
+    many = len(web[0])
+    yield []
+    for wrong in (-1, -many, -HUGE, many, many + 1, HUGE):
+        for sellers in range(1, 6):
+            for at in range(sellers):
+                yield [0] * at + [wrong] + [many - 1] * (sellers - at - 1)

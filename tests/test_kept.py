@@ -4,9 +4,12 @@ import copy
 import unittest
 
 from standsellers.errors import SellError
+from standsellers.moves import best_reply, gains, moved, rest_or_move, rest_paper, rest_shows
+from standsellers.play import play_out, turns_out
+from standsellers.rests import all_rests, least_ways, rests_come, ways_sum, widest_round
 from standsellers.shares import reach, shares, who_comes
 from standsellers.webs import all_ways, street, way, web_of
-from tests.helpers import TellCase, detour, ring, row_of_three
+from tests.helpers import TellCase, alone, detour, even_row, half_quiet, ring, row_of_three, unquiet
 
 TOLD = [
     (web_of, [3, 0, 5], [(2, 1, 1), (1, 0, 2)]),
@@ -22,6 +25,37 @@ TOLD = [
     (shares, row_of_three(), [1]),
     (reach, ring(), [2, 0], 0),
     (reach, row_of_three(), [1], 0),
+    (gains, row_of_three(), [0, 1], 1),
+    (gains, alone(), [0], 0),
+    (best_reply, row_of_three(), [0, 0], 1),
+    (rest_shows, row_of_three(), [2, 2], [[6, 6, 8], [6, 6, 8]]),
+    (rest_shows, row_of_three(), [2, 2], [[6, 6, 8], [6, 8]]),
+    (rest_paper, row_of_three(), [2, 2]),
+    (rest_paper, alone(), [0, 0, 0]),
+    (rest_or_move, row_of_three(), [0, 2, 2]),
+    (rest_or_move, row_of_three(), [0, 1]),
+    (moved, row_of_three(), [0, 1], []),
+    (moved, row_of_three(), [0, 1], [(1, 1)]),
+    (moved, row_of_three(), [0, 1], [(1, 2), (0, 1)]),
+    (play_out, row_of_three(), [0, 0]),
+    (play_out, row_of_three(), [2, 2]),
+    (play_out, half_quiet(), [0, 0]),
+    (play_out, half_quiet(), [0, 2]),
+    (turns_out, row_of_three(), [0, 0]),
+    (turns_out, row_of_three(), [2, 2]),
+    (turns_out, even_row(), [0, 1, 0]),
+    (turns_out, half_quiet(), [0, 2]),
+    (all_rests, half_quiet(), 2),
+    (all_rests, alone(), 3),
+    (all_rests, unquiet(), 3),
+    (rests_come, half_quiet(), 2),
+    (rests_come, alone(), 3),
+    (rests_come, unquiet(), 3),
+    (widest_round, unquiet(), 3),
+    (widest_round, row_of_three(), 2),
+    (least_ways, half_quiet(), 3),
+    (least_ways, alone(), 2),
+    (ways_sum, ring(), [0, 2]),
 ]
 
 REFUSED = [
@@ -35,7 +69,34 @@ REFUSED = [
     (shares, ring(), [2, -1]),
     (reach, ring(), [], 0),
     (reach, ring(), [2, 0], 2),
+    (gains, ring(), [2, 0], 2),
+    (best_reply, ring(), [2, 4], 0),
+    (rest_shows, ring(), [], []),
+    (rest_paper, row_of_three(), [0, 1]),
+    (rest_or_move, row_of_three(), [0, 3]),
+    (moved, row_of_three(), [0, 1], [(1, 2), (0, 3)]),
+    (moved, row_of_three(), [0, 1], [(1, 2), (2, 0), (0, 2)]),
+    (moved, row_of_three(), [0, 3], [(1, 2)]),
+    (play_out, half_quiet(), [0, 4]),
+    (turns_out, half_quiet(), [0, -1]),
+    (all_rests, half_quiet(), 0),
+    (all_rests, half_quiet(), 5),
+    (rests_come, half_quiet(), 5),
+    (widest_round, half_quiet(), 5),
+    (least_ways, half_quiet(), 5),
+    (ways_sum, ring(), [0, 4]),
 ]
+
+# What each call tells: a kind, or the kinds that it may tell.
+OUTER = {
+    web_of: tuple, street: tuple, way: int, all_ways: list,
+    who_comes: list, shares: list, reach: list,
+    gains: list, best_reply: tuple, rest_shows: bool, rest_paper: list, rest_or_move: tuple, moved: list,
+    play_out: tuple, turns_out: tuple,
+    all_rests: list, rests_come: tuple, widest_round: (tuple, type(None)), least_ways: tuple, ways_sum: int,
+}
+
+WORDS = ("rests", "moves", "rest", "round")
 
 
 def spoil(value):
@@ -114,14 +175,20 @@ class Kept(TellCase):
     def test_whole_numbers_in_lists_and_tuples(self):
         for call, *arguments in TOLD:
             with self.subTest(call.__name__):
-                for part in parts_of(call(*copy.deepcopy(arguments))):
-                    self.assertIn(type(part), (int, list, tuple))
+                told = call(*copy.deepcopy(arguments))
+                for part in parts_of(told)[1:]:
+                    if part not in WORDS:
+                        self.assertIn(type(part), (int, list, tuple))
 
     def test_the_outer_kinds(self):
-        outer = {web_of: tuple, street: tuple, way: int, all_ways: list, who_comes: list, shares: list, reach: list}
         for call, *arguments in TOLD:
             with self.subTest(call.__name__):
-                self.assertIs(type(call(*arguments)), outer[call])
+                kinds = OUTER[call] if isinstance(OUTER[call], tuple) else (OUTER[call],)
+                self.assertIn(type(call(*copy.deepcopy(arguments))), kinds)
+
+    def test_each_call_is_looked_at(self):
+        self.assertEqual({call for call, *arguments in TOLD}, set(OUTER))
+        self.assertEqual(set(OUTER) - {call for call, *arguments in REFUSED}, {all_ways})
 
 
 if __name__ == "__main__":

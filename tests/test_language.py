@@ -23,6 +23,10 @@ setdefault split splitlines startswith strip update upper values zfill bit_lengt
 center expandtabs removeprefix removesuffix rindex isascii isdecimal isnumeric istitle isidentifier isprintable
 translate sort add discard""".split()
 
+ITERATED = "zip enumerate reversed range items keys values".split()
+
+ITERATING = "list tuple dict sorted sum any all enumerate zip bytes min max".split()
+
 BARRED_WORDS = """type typing typing_extensions enum Enum IntEnum StrEnum Flag IntFlag Generic Protocol ABC ABCMeta
 namedtuple NamedTuple TypedDict TYPE_CHECKING abstractmethod""".split()
 
@@ -41,6 +45,11 @@ def parsed():
 
 def nodes(kind):
     return [(name, node) for name, tree in parsed() for node in ast.walk(tree) if isinstance(node, kind)]
+
+
+def called_name(node):
+    """The name of the function or method that is called."""
+    return getattr(node.func, "attr", getattr(node.func, "id", None))
 
 
 def bound_names():
@@ -81,6 +90,14 @@ class Language(unittest.TestCase):
                        if isinstance(made, (ast.FunctionDef, ast.ClassDef))]
             for alias in node.names:
                 self.assertIn(alias.name, defined, name)
+
+    def test_no_two_files_import_from_each_other_l16(self):
+        behind = {name: {node.module.partition(".")[2] + ".py" for node in tree.body if isinstance(node, ast.ImportFrom)}
+                  for name, tree in parsed()}
+        for round_again in behind:
+            behind = {name: far.union(*[behind[other] for other in far]) for name, far in behind.items()}
+        for name, far in behind.items():
+            self.assertNotIn(name, far)
 
     def test_module_level_l3_l15(self):
         allowed = (ast.ImportFrom, ast.FunctionDef, ast.ClassDef, ast.Assign)
@@ -135,6 +152,15 @@ class Language(unittest.TestCase):
             for operator, right in zip(node.ops, node.comparators):
                 if isinstance(operator, (ast.Is, ast.IsNot)):
                     self.assertIn(repr(getattr(right, "value", right)), ("None", "True", "False"), name)
+
+    def test_iterated_at_once_l23(self):
+        for name, tree in parsed():
+            spots = [node.iter for node in ast.walk(tree) if isinstance(node, (ast.For, ast.comprehension))]
+            spots += [node.args[0] for node in ast.walk(tree) if isinstance(node, ast.Call) and node.args
+                      and isinstance(node.func, ast.Name) and node.func.id in ITERATING]
+            for node in ast.walk(tree):
+                if isinstance(node, ast.Call) and called_name(node) in ITERATED:
+                    self.assertIn(node, spots, f"{name}:{node.lineno}")
 
     def test_methods_l25(self):
         own = [node.name for name, node in nodes(ast.FunctionDef)]

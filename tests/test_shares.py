@@ -1,6 +1,5 @@
 """Points 8, 9 and 10: who comes to which seller, the shares, and the reach."""
 
-import itertools
 import math
 import unittest
 from fractions import Fraction
@@ -8,35 +7,10 @@ from fractions import Fraction
 from standsellers.errors import NoSeller, NoStanding
 from standsellers.shares import reach, shares, who_comes
 from standsellers.webs import all_ways, street, web_of
-from tests.helpers import HUGE, TellCase, alone, detour, long_row, ring, row_of_three, sample_webs
+from tests.helpers import (HUGE, TellCase, alone, long_row, ring, row_of_three, sample_webs, small_cases,
+                           wrong_standings)
 
 UNITS = {1: 1, 2: 2, 3: 6, 4: 12, 5: 60}
-
-
-def standings(web, most):
-    """All standings of one to so many sellers."""
-    for sellers in range(1, most + 1):
-        for standing in itertools.product(range(len(web[0])), repeat=sellers):
-            yield list(standing)
-
-
-def small_cases():
-    for web in (alone(), row_of_three()):
-        for standing in standings(web, 5):
-            yield web, standing
-    for web in (detour(), ring()):
-        for standing in standings(web, 4):
-            yield web, standing
-
-
-def wrong_standings(web):
-    """Standings that the web has not: no seller, and a wrong place at each seller of one to five."""
-    many = len(web[0])
-    yield []
-    for wrong in (-1, -many, -HUGE, many, many + 1, HUGE):
-        for sellers in range(1, 6):
-            for at in range(sellers):
-                yield [0] * at + [wrong] + [many - 1] * (sellers - at - 1)
 
 
 class WhoComes(TellCase):
