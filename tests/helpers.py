@@ -67,6 +67,16 @@ def half_quiet():
     return ([2, 1, 6, 5], [(0, 1, 4), (0, 3, 2), (1, 2, 2), (2, 3, 3)])
 
 
+def ever_beaten():
+    """Every place is beaten by another one; only mixtures of all five places, 6 1 14 10 23 each, are unbeaten."""
+    return ([0, 4, 2, 3, 4], [(0, 1, 2), (0, 3, 3), (1, 2, 4), (1, 3, 4), (2, 4, 2), (3, 4, 4)])
+
+
+def star():
+    """A tree: 2 is joined with 0, 1, 3 and 4, and 5 hangs on 4."""
+    return ([1, 2, 0, 3, 1, 4], [(0, 2, 1), (1, 2, 2), (2, 3, 1), (2, 4, 5), (4, 5, 1)])
+
+
 def sample_webs():
     return [alone(), row_of_three(), detour(), ring(), long_row(), close_mesh()]
 
@@ -87,11 +97,21 @@ def small_cases():
             yield web, standing
 
 
+def wrong_sellers(sellers):
+    """Numbers of sellers that a standing of so many has not."""
+    return (-1, -sellers, -HUGE, sellers, sellers + 1, HUGE)
+
+
+def wrong_places(web):
+    """Numbers of places that the web has not."""
+    return wrong_sellers(len(web[0]))
+
+
 def wrong_standings(web):
     """Standings that the web has not: no seller, and a wrong place at each seller of one to five."""
     many = len(web[0])
     yield []
-    for wrong in (-1, -many, -HUGE, many, many + 1, HUGE):
+    for wrong in wrong_places(web):
         for sellers in range(1, 6):
             for at in range(sellers):
                 yield [0] * at + [wrong] + [many - 1] * (sellers - at - 1)

@@ -124,6 +124,34 @@ class Plain:
     def least_ways(self, many):
         return min(((self.ways_sum(standing), standing) for standing in self.rising(many)), key=lambda told: told[0])
 
+    def against(self, here, there):
+        return self.share((here, there), 0)
+
+    def tells(self, mixture):
+        return [sum(many * self.against(here, there) for here, many in enumerate(mixture)) for there in self.places]
+
+    def unbeaten(self, mixture):
+        half = Fraction(sum(self.folk), 2) * 2 * sum(mixture)
+        return all(told >= half for told in self.tells(mixture))
+
+
+def small_mixtures(places, most):
+    """All mixtures of so many places whose numbers are no more than so many together."""
+    for together in range(1, most + 1):
+        for cuts in itertools.combinations(range(together + places - 1), places - 1):
+            ends = [-1, *cuts, together + places - 1]
+            yield [after - before - 1 for before, after in zip(ends, ends[1:])]
+
+
+def drawn_trees(places, many, seed):
+    """So many trees of so many places, drawn by the seed."""
+    draw = random.Random(seed)
+    for one in range(many):
+        names = draw.sample(range(places), places)
+        ends = [sorted((names[b], names[draw.randrange(b)])) for b in range(1, places)]
+        roads = sorted((a, b, draw.randint(1, 4)) for a, b in ends)
+        yield ([draw.choice((0, 0, 1, 2, 3, 5)) for place in range(places)], roads)
+
 
 def drawn_webs(places, many, seed):
     """So many webs of so many places, drawn by the seed: the same ones each time."""

@@ -4,12 +4,16 @@ import copy
 import unittest
 
 from standsellers.errors import SellError
+from standsellers.mixed import is_unbeaten, mixture_tells, stood_at, unbeaten_mixture
 from standsellers.moves import best_reply, gains, moved, rest_or_move, rest_paper, rest_shows
 from standsellers.play import play_out, turns_out
 from standsellers.rests import all_rests, least_ways, rests_come, ways_sum, widest_round
 from standsellers.shares import reach, shares, who_comes
+from standsellers.sure import beaten_by, made_sure, share_table, surest
+from standsellers.trees import branches, is_tree, medians, way_between
 from standsellers.webs import all_ways, street, way, web_of
-from tests.helpers import TellCase, alone, detour, even_row, half_quiet, ring, row_of_three, unquiet
+from tests.helpers import (TellCase, alone, detour, even_row, ever_beaten, half_quiet, ring, row_of_three, star,
+                           unquiet)
 
 TOLD = [
     (web_of, [3, 0, 5], [(2, 1, 1), (1, 0, 2)]),
@@ -56,6 +60,29 @@ TOLD = [
     (least_ways, half_quiet(), 3),
     (least_ways, alone(), 2),
     (ways_sum, ring(), [0, 2]),
+    (share_table, ring()),
+    (share_table, alone()),
+    (made_sure, ring()),
+    (surest, half_quiet()),
+    (surest, alone()),
+    (beaten_by, ring()),
+    (beaten_by, half_quiet()),
+    (mixture_tells, ring(), [1, 0, 2, 0]),
+    (is_unbeaten, half_quiet(), [0, 0, 1, 5]),
+    (is_unbeaten, half_quiet(), [1, 0, 1, 5]),
+    (unbeaten_mixture, alone()),
+    (unbeaten_mixture, half_quiet()),
+    (unbeaten_mixture, ever_beaten()),
+    (stood_at, half_quiet()),
+    (stood_at, ever_beaten()),
+    (is_tree, star()),
+    (is_tree, ring()),
+    (branches, star(), 2),
+    (branches, alone(), 0),
+    (medians, star()),
+    (medians, alone()),
+    (way_between, star(), 5, 0),
+    (way_between, star(), 3, 3),
 ]
 
 REFUSED = [
@@ -85,6 +112,13 @@ REFUSED = [
     (widest_round, half_quiet(), 5),
     (least_ways, half_quiet(), 5),
     (ways_sum, ring(), [0, 4]),
+    (mixture_tells, ring(), [1, 0, 2]),
+    (is_unbeaten, ring(), [1, 0, 2, -1]),
+    (unbeaten_mixture, star()),
+    (stood_at, star()),
+    (branches, star(), 6),
+    (medians, ring()),
+    (way_between, star(), 5, -1),
 ]
 
 # What each call tells: a kind, or the kinds that it may tell.
@@ -94,9 +128,15 @@ OUTER = {
     gains: list, best_reply: tuple, rest_shows: bool, rest_paper: list, rest_or_move: tuple, moved: list,
     play_out: tuple, turns_out: tuple,
     all_rests: list, rests_come: tuple, widest_round: (tuple, type(None)), least_ways: tuple, ways_sum: int,
+    share_table: list, made_sure: list, surest: tuple, beaten_by: list,
+    mixture_tells: list, is_unbeaten: bool, unbeaten_mixture: list, stood_at: list,
+    is_tree: bool, branches: list, medians: list, way_between: list,
 }
 
-WORDS = ("rests", "moves", "rest", "round")
+# These refuse nothing.
+ALWAYS_TOLD = {all_ways, share_table, made_sure, surest, beaten_by, is_tree}
+
+WORDS = ("rests", "moves", "rest", "round", None)
 
 
 def spoil(value):
@@ -188,7 +228,7 @@ class Kept(TellCase):
 
     def test_each_call_is_looked_at(self):
         self.assertEqual({call for call, *arguments in TOLD}, set(OUTER))
-        self.assertEqual(set(OUTER) - {call for call, *arguments in REFUSED}, {all_ways})
+        self.assertEqual(set(OUTER) - {call for call, *arguments in REFUSED}, ALWAYS_TOLD)
 
 
 if __name__ == "__main__":

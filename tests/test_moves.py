@@ -8,17 +8,8 @@ from standsellers.moves import best_reply, gains, moved, rest_or_move, rest_pape
 from standsellers.shares import shares
 from standsellers.webs import street
 from tests.helpers import (HUGE, TellCase, alone, close_mesh, detour, half_quiet, long_row, ring, row_of_three,
-                           sample_webs, small_cases, standings, unquiet, wrong_standings)
+                           sample_webs, small_cases, standings, unquiet, wrong_places, wrong_sellers, wrong_standings)
 from tests.plain import Plain, drawn_webs
-
-
-def wrong_sellers(sellers):
-    return (-1, -sellers, -HUGE, sellers, sellers + 1, HUGE)
-
-
-def wrong_places(web):
-    many = len(web[0])
-    return (-1, -many, -HUGE, many, many + 1, HUGE)
 
 
 def drawn_cases():
