@@ -8,7 +8,8 @@ from standsellers.webs import all_ways
 def play_out(web, standing):
     """The moves of the first seller who gains, until the standing rests or one comes again."""
     check_standing(web, standing)
-    return play_by({}, web[0], all_ways(web), standing)
+    folk, ways = web[0], all_ways(web)
+    return play_by({}, lambda now: first_step(folk, ways, now), standing)
 
 
 def turns_out(web, standing):
@@ -34,13 +35,13 @@ def turns_out(web, standing):
     return ("rest", moves)
 
 
-def play_by(steps, folk, ways, standing):
-    """The play by folk and ways; steps keeps each standing's, as plays of one web meet the same ones."""
+def play_by(steps, step_from, standing):
+    """The play by the steps from each standing; these are kept in steps, as plays of one web meet the same ones."""
     now, moves, met = tuple(standing), [], {}
     while now not in met:
         met[now] = len(moves)
         if now not in steps:
-            steps[now] = first_step(folk, ways, now)
+            steps[now] = step_from(now)
         if steps[now] is None:
             return ("rest", moves)
         seller, place, gain = steps[now]

@@ -65,7 +65,7 @@ def all_plays(web, many):
     """All standings of so many sellers, in order, each with what its play leads to."""
     folk, ways, steps = web[0], all_ways(web), {}
     standings = all_standings(len(folk), many)
-    return [(standing, play_by(steps, folk, ways, standing)) for standing in standings]
+    return [(standing, play_by(steps, lambda now: first_step(folk, ways, now), standing)) for standing in standings]
 
 
 def all_standings(places, many):

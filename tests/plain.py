@@ -134,6 +134,47 @@ class Plain:
         half = Fraction(sum(self.folk), 2) * 2 * sum(mixture)
         return all(told >= half for told in self.tells(mixture))
 
+    def earns(self, standing, seller):
+        total = Fraction(0)
+        for place in self.places:
+            sums = sorted((self.ways[place, at] + price, who) for who, (at, price) in enumerate(standing))
+            near = [who for cost, who in sums if cost == sums[0][0]]
+            if seller in near:
+                total += Fraction(self.folk[place], len(near))
+        return int(total * math.lcm(*range(1, len(standing) + 1)) * standing[seller][1])
+
+    def priced_gains(self, prices, standing, seller):
+        standing = tuple(standing)
+        key = (tuple(prices), standing, seller)
+        if key not in self.known:
+            now = self.earns(standing, seller)
+            self.known[key] = [
+                [self.earns(standing[:seller] + ((there, price),) + standing[seller + 1:], seller) - now
+                 for price in prices] for there in self.places]
+        return self.known[key]
+
+    def priced_told(self, prices, standing):
+        for seller in range(len(standing)):
+            rows = self.priced_gains(prices, standing, seller)
+            # The greatest gain, then the least place, then the least price: the first of them in this order.
+            found = sorted((-gain, place, price) for place, row in enumerate(rows) for price, gain in zip(prices, row))
+            gain, place, price = found[0]
+            if gain < 0:
+                return ("moves", seller, (place, price), -gain)
+        return ("rests",)
+
+    def priced_play(self, prices, standing):
+        line, moves = [list(standing)], []
+        while self.priced_told(prices, line[-1]) != ("rests",):
+            word, seller, to, gain = self.priced_told(prices, line[-1])
+            moves.append((seller, to))
+            now = list(line[-1])
+            now[seller] = to
+            if now in line:
+                return ("round", moves[:line.index(now)], moves[line.index(now):])
+            line.append(now)
+        return ("rest", moves)
+
 
 def small_mixtures(places, most):
     """All mixtures of so many places whose numbers are no more than so many together."""

@@ -3,13 +3,17 @@
 import copy
 import unittest
 
+from standsellers.changed import folk_times, places_renamed, rests_in_both, road_put, webs_joined
 from standsellers.errors import SellError
 from standsellers.mixed import is_unbeaten, mixture_tells, stood_at, unbeaten_mixture
 from standsellers.moves import best_reply, gains, moved, rest_or_move, rest_paper, rest_shows
 from standsellers.play import play_out, turns_out
+from standsellers.prices import earnings, priced_gains, priced_play, priced_rest
 from standsellers.rests import all_rests, least_ways, rests_come, ways_sum, widest_round
 from standsellers.shares import reach, shares, who_comes
 from standsellers.sure import beaten_by, made_sure, share_table, surest
+from standsellers.texts import (mixture_text, priced_text, read_mixture, read_priced, read_standing, read_web,
+                                standing_text, web_text)
 from standsellers.trees import branches, is_tree, medians, way_between
 from standsellers.webs import all_ways, street, way, web_of
 from tests.helpers import (TellCase, alone, detour, even_row, ever_beaten, half_quiet, ring, row_of_three, star,
@@ -83,6 +87,33 @@ TOLD = [
     (medians, alone()),
     (way_between, star(), 5, 0),
     (way_between, star(), 3, 3),
+    (earnings, row_of_three(), [(0, 1), (2, 2)]),
+    (priced_gains, row_of_three(), [1, 2], [(0, 1), (2, 2)], 0),
+    (priced_rest, row_of_three(), [1, 2], [(0, 1), (2, 2)]),
+    (priced_rest, row_of_three(), [1, 2], [(2, 2), (2, 2)]),
+    (priced_play, row_of_three(), [1, 2], [(0, 1), (0, 1)]),
+    (priced_play, row_of_three(), [1, 2], [(0, 2), (1, 2)]),
+    (priced_play, row_of_three(), [1, 2], [(2, 2), (2, 2)]),
+    (priced_play, even_row(), [0, 1, 3], [(0, 1), (0, 1)]),
+    (folk_times, row_of_three(), 1),
+    (folk_times, row_of_three(), 3),
+    (places_renamed, row_of_three(), [0, 1, 2]),
+    (places_renamed, row_of_three(), [2, 0, 1]),
+    (road_put, row_of_three(), 0, 1, 2),
+    (road_put, row_of_three(), 2, 0, 7),
+    (webs_joined, row_of_three(), alone(), 2, 0, 4),
+    (webs_joined, alone(), alone(), 0, 0, 1),
+    (rests_in_both, half_quiet(), detour(), 2),
+    (rests_in_both, half_quiet(), unquiet(), 2),
+    (web_text, row_of_three()),
+    (standing_text, [2, 0]),
+    (priced_text, [(2, 7), (0, 1)]),
+    (mixture_text, [2, 0]),
+    (read_web, "3 0 5: 0-1:2 1-2:1"),
+    (read_web, "4:"),
+    (read_standing, "2 0"),
+    (read_priced, "2@7 0@1"),
+    (read_mixture, "2 0"),
 ]
 
 REFUSED = [
@@ -119,6 +150,24 @@ REFUSED = [
     (branches, star(), 6),
     (medians, ring()),
     (way_between, star(), 5, -1),
+    (earnings, row_of_three(), [(0, 1), (3, 2)]),
+    (priced_gains, row_of_three(), [1, 2], [(0, 1), (2, 2)], 2),
+    (priced_rest, row_of_three(), [2, 1], [(0, 1), (2, 2)]),
+    (priced_play, row_of_three(), [], [(0, 1), (0, 1)]),
+    (priced_play, row_of_three(), [1, 2], [(0, 1), (0, 1001)]),
+    (folk_times, row_of_three(), 0),
+    (places_renamed, row_of_three(), [2, 0, 2]),
+    (road_put, row_of_three(), 0, 3, 2),
+    (road_put, row_of_three(), 2, 0, 0),
+    (webs_joined, row_of_three(), alone(), 2, 1, 4),
+    (webs_joined, row_of_three(), alone(), 2, 0, 0),
+    (rests_in_both, half_quiet(), row_of_three(), 2),
+    (rests_in_both, half_quiet(), detour(), 9),
+    (read_web, "3 0 5: 1-2:1 0-1:2"),
+    (read_web, "3 0 5: 1-2:1"),
+    (read_standing, "2 00"),
+    (read_priced, "2@7 0"),
+    (read_mixture, ""),
 ]
 
 # What each call tells: a kind, or the kinds that it may tell.
@@ -131,10 +180,15 @@ OUTER = {
     share_table: list, made_sure: list, surest: tuple, beaten_by: list,
     mixture_tells: list, is_unbeaten: bool, unbeaten_mixture: list, stood_at: list,
     is_tree: bool, branches: list, medians: list, way_between: list,
+    earnings: list, priced_gains: list, priced_rest: tuple, priced_play: tuple,
+    folk_times: tuple, places_renamed: tuple, road_put: tuple, webs_joined: tuple, rests_in_both: list,
+    web_text: str, standing_text: str, priced_text: str, mixture_text: str,
+    read_web: tuple, read_standing: list, read_priced: list, read_mixture: list,
 }
 
 # These refuse nothing.
-ALWAYS_TOLD = {all_ways, share_table, made_sure, surest, beaten_by, is_tree}
+ALWAYS_TOLD = {all_ways, share_table, made_sure, surest, beaten_by, is_tree,
+               web_text, standing_text, priced_text, mixture_text}
 
 WORDS = ("rests", "moves", "rest", "round", None)
 

@@ -107,7 +107,29 @@ class Language(unittest.TestCase):
                 self.assertIsInstance(node, allowed, f"{name}:{node.lineno}")
             made = [node.name for node in body if isinstance(node, (ast.FunctionDef, ast.ClassDef))]
             made += [alias.name for node in body if isinstance(node, ast.ImportFrom) for alias in node.names]
+            made += [target.id for node in body if isinstance(node, ast.Assign) for target in node.targets]
             self.assertEqual(len(made), len(set(made)), name)
+
+    def test_lists_at_module_level_hold_no_lists_l15(self):
+        for name, tree in parsed():
+            for node in tree.body:
+                if isinstance(node, ast.Assign) and isinstance(node.value, (ast.List, ast.Dict)):
+                    inner = [part for part in ast.walk(node.value) if isinstance(part, (ast.List, ast.Dict))]
+                    self.assertEqual(inner, [node.value], f"{name}:{node.lineno}")
+
+    def test_methods_and_attributes_l18(self):
+        methods = [part.name for name, node in nodes(ast.ClassDef) for part in node.body
+                   if isinstance(part, ast.FunctionDef)]
+        assigned = [node.attr for name, node in nodes(ast.Attribute) if isinstance(node.ctx, ast.Store)]
+        for attribute in assigned:
+            self.assertNotIn(attribute, methods)
+        for name, node in nodes(ast.Attribute):
+            if isinstance(node.ctx, ast.Load) and node.attr not in METHODS:
+                self.assertIn(node.attr, methods + assigned, f"{name}:{node.lineno}")
+
+    def test_lambdas_l13(self):
+        rows = [(name, node.lineno) for name, node in nodes(ast.Lambda)]
+        self.assertEqual(len(rows), len(set(rows)))
 
     def test_statements_l6(self):
         for name, node in nodes(ast.stmt):
@@ -126,7 +148,7 @@ class Language(unittest.TestCase):
 
     def test_names_l12_l15(self):
         for name, bound in bound_names():
-            self.assertRegex(bound, r"\A[A-Za-z][A-Za-z0-9_]*\Z", name)
+            self.assertRegex(bound, r"\A([A-Za-z][A-Za-z0-9_]*|__init__)\Z", name)
             self.assertNotIn(bound, dir(builtins), name)
 
     def test_no_local_has_the_name_of_an_import_or_a_class_l15(self):
