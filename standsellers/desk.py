@@ -7,7 +7,6 @@ from standsellers.rests import all_rests
 from standsellers.shares import shares
 from standsellers.sure import beaten_by, surest
 from standsellers.texts import is_number, read_standing, read_web
-from standsellers.webs import check_place
 
 MOST_FIGURES = 2
 
@@ -97,7 +96,6 @@ class Desk:
     def go(self, seller, place):
         """Move the seller; what it gains."""
         gained = gains(self.web, self.standing, seller)
-        check_place(self.web, place)
         self.standing = moved(self.web, self.standing, [(seller, place)])
         return f"gain {gained[place]}"
 

@@ -14,7 +14,8 @@ from tests.plain import Plain, drawn_webs
 
 WRONG_PRICES = (-1, -1000, -HUGE, 1001, 1002, 2000, HUGE)
 
-PRICE_LISTS = ([0], [1000], [1, 2], [0, 1, 3], [2, 5, 6], [0, 1, 2, 3, 1000])
+# The last has more prices than are promised to be told of, which no point refuses.
+PRICE_LISTS = ([0], [1000], [1, 2], [0, 1, 3], [2, 5, 6], [0, 1, 2, 3, 1000], [0, 1, 2, 3, 4, 5])
 
 # None, falling, one twice, below 0, above a thousand; each also behind or ahead of right ones.
 NO_PRICES = [[], [2, 1], [1, 3, 2], [5, 4, 3, 2, 1], [1000, 0], [1, 1], [0, 0], [1, 2, 2], [1, 1, 2], [1000, 1000],

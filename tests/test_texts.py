@@ -152,6 +152,8 @@ class Numbers(TellCase):
         for write, read in self.WRITTEN:
             self.assert_told(read("0 0 0"), [0, 0, 0])
             self.assert_told(read("7 7 3"), [7, 7, 3])
+            # More than are promised to be written, which no point refuses.
+            self.assert_told(read(" ".join(["1"] * 13)), [1] * 13)
 
     def test_no_numbers(self):
         for write, read in self.WRITTEN:
